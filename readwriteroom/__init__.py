@@ -1,0 +1,1 @@
+"""A room of many readers or one writer, served in turn."""
